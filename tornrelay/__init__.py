@@ -1,0 +1,1 @@
+"""Tornrelay: telegraph houses that pass messages on by torn tapes."""

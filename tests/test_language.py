@@ -38,6 +38,12 @@ def own_attributes(trees):
     return {part.name for one in classes for part in one.body if isinstance(part, ast.FunctionDef)}
 
 
+def names_defined(tree):
+    """Gather the names that a file defines at its module level, imports left out."""
+    names = {row.name for row in tree.body if isinstance(row, (ast.FunctionDef, ast.ClassDef))}
+    return names | {target.id for row in tree.body if isinstance(row, ast.Assign) for target in row.targets}
+
+
 class Language(unittest.TestCase):
     def setUp(self):
         self.texts = {file.name: file.read_text(encoding="utf-8") for file in FILES}
@@ -59,14 +65,38 @@ class Language(unittest.TestCase):
         for where, node in self.each_node(ast.ImportFrom):
             self.assertEqual(node.level, 0, where)
             self.assertRegex(node.module, r"^tornrelay\.[a-z_]+$", where)
-            defined = {getattr(row, "name", "") for row in self.trees[node.module.split(".")[1] + ".py"].body}
+            defined = names_defined(self.trees[node.module.split(".")[1] + ".py"])
             self.assertLessEqual({one.name for one in node.names}, defined, where)
+
+    def test_l16_no_two_files_import_from_each_other(self):
+        imports = {
+            name: {row.module.split(".")[1] + ".py" for row in tree.body if isinstance(row, ast.ImportFrom)}
+            for name, tree in self.trees.items()
+        }
+        while imports:
+            free = [name for name, needed in imports.items() if not needed & set(imports)]
+            self.assertNotEqual(free, [], sorted(imports))
+            for name in free:
+                del imports[name]
 
     def test_l3_module_level(self):
         for name, tree in self.trees.items():
             self.assertTrue(ast.get_docstring(tree), name)
             for row in tree.body[1:]:
                 self.assertIsInstance(row, (ast.ImportFrom, ast.FunctionDef, ast.ClassDef, ast.Assign), name)
+
+    def test_l3_l15_values_at_module_level(self):
+        for name, tree in self.trees.items():
+            names = [one.asname or one.name for row in tree.body for one in getattr(row, "names", [])]
+            above = set()
+            for row in tree.body:
+                above |= {row.name} if isinstance(row, ast.FunctionDef) else set()
+                names += [row.name] if isinstance(row, (ast.FunctionDef, ast.ClassDef)) else []
+                if isinstance(row, ast.Assign):
+                    names += [target.id for target in row.targets]
+                    used = {node.id for node in ast.walk(row.value) if isinstance(node, ast.Name)}
+                    self.assertLessEqual(used, above, f"{name}:{row.lineno}")
+            self.assertEqual(sorted(names), sorted(set(names)), name)
 
     def test_l6_l7_barred_signs(self):
         self.assertEqual([where for where, node in self.each_node(*BARRED_NODES)], [])
@@ -111,6 +141,15 @@ class Language(unittest.TestCase):
         for name, text in self.texts.items():
             self.assertEqual(re.findall(r"\b(?:" + "|".join(BARRED_WORDS) + r")\b", text), [], name)
             self.assertEqual(re.findall("dataclass|overload|contextmanager", text), [], name)
+
+    def test_l18_no_name_is_a_method_and_an_attribute(self):
+        methods = own_attributes(self.trees.values())
+        assigned = {node.attr for where, node in self.each_node(ast.Attribute) if isinstance(node.ctx, ast.Store)}
+        self.assertEqual(methods & assigned, set())
+        called = {id(node.func) for where, node in self.each_node(ast.Call)}
+        for where, node in self.each_node(ast.Attribute):
+            if id(node) not in called:
+                self.assertIn(node.attr, assigned, where)
 
     def test_l25_methods(self):
         allowed = ALLOWED_METHODS | own_attributes(self.trees.values()) | {"__init__"}

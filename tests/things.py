@@ -31,3 +31,55 @@ def spelled_runs(tape):
         fits = 1 <= len(body) <= 600 and max(body) <= 30 and run[:7] == spelled_counts(body)
         told.append((found.start(), body if fits else []))
     return told
+
+
+# One slip of each sort.
+SLIPS = [
+    ("message", 3, 2, 14, 4, "b", 7, "ac", "bd", "to all: 3 tons|at once"),
+    ("void", 0, 9, 9999),
+    ("check", 11, (0, 17, 9999)),
+    ("ask", 5, 1, (2, 3, 40)),
+]
+
+# What is put in the place of a part; most of them fit nowhere.
+OTHER_PARTS = OTHER_THINGS + ["", "a", "b", "ab", "bd", "g", "1", [], [1], ["a"], 2, 9, 10, 11, 12, 23, 24, 25, (2, 3)]
+
+
+def without(thing, place):
+    """Tell a list or tuple with the part at a place left out."""
+    return thing[:place] + thing[place + 1:]
+
+
+def with_part(thing, place, part):
+    """Tell a tuple with the part at a place put otherwise."""
+    return thing[:place] + (part,) + thing[place + 1:]
+
+
+def one_part_otherwise(thing, others=OTHER_PARTS):
+    """Tell a tuple with one part of it put otherwise, left out or put in, in each way."""
+    told = [without(thing, place) for place in range(len(thing))]
+    for other in others:
+        told += [with_part(thing, place, other) for place in range(len(thing))]
+        told += [thing[:place] + (other,) + thing[place:] for place in range(len(thing) + 1)]
+    return told
+
+
+def spelled_slip(thing):
+    """Tell whether a thing, without a ' in its text, is a slip, by how Python shows it."""
+    line, day, number, last = "(?:[0-9]|1[01])", "[1-9]", "[1-9][0-9]{0,3}", "(?:0|[1-9][0-9]{0,3})"
+    path, text = "'[a-f]{1,6}'", r"'[-a-z |0-9/.,?()+:=]{0,200}'"
+    sorts = [
+        rf"\('message', {line}, {day}, {number}, [1-4], '[a-f]', {number}, {path}, {path}, {text}\)",
+        rf"\('void', {line}, {day}, {number}\)",
+        rf"\('check', {line}, \((?:{last},|{last}(?:, {last}){{1,8}})\)\)",
+        rf"\('ask', {line}, {day}, \((?:{number},|{number}(?:, {number}){{1,9}})\)\)",
+    ]
+    if not any(re.fullmatch(sort, repr(thing)) for sort in sorts):
+        return False
+    if thing[0] == "ask":
+        return all(one < other for one, other in zip(thing[3], thing[3][1:]))
+    if thing[0] == "message":
+        origin, serial, ways, path = thing[5:9]
+        unlike = len(set(ways + path)) == len(ways + path)
+        return unlike and "".join(sorted(ways)) == ways and path.startswith(origin)
+    return True

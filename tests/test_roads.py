@@ -4,30 +4,11 @@ import itertools
 import random
 import unittest
 
+from tests.plain import spelled_road
 from tornrelay.roads import all_channels, reached, road
 
 # Four houses in a row, each joined to the next both ways.
 ROW = [(0, "a", "b"), (0, "b", "a"), (1, "b", "c"), (1, "c", "b"), (2, "c", "d"), (2, "d", "c")]
-
-
-def every_road(links, house, passed):
-    """Tell all roads from a house, one link after another."""
-    told, waiting = [], [[]]
-    while waiting:
-        taken = waiting.pop()
-        at = taken[-1][2] if taken else house
-        visited = {house} | {link[2] for link in taken}
-        for link in links:
-            if link[1] == at and link[2] not in visited and link[2] not in passed:
-                waiting.append(taken + [link])
-                told.append(taken + [link])
-    return told
-
-
-def spelled_road(links, house, goal, passed):
-    """Tell the least of the shortest roads by comparing all of them."""
-    roads = [one for one in every_road(links, house, passed) if one[-1][2] == goal]
-    return min(roads, key=lambda one: (len(one), one), default=[])
 
 
 class Roads(unittest.TestCase):

@@ -41,6 +41,20 @@ SLIPS = [
     ("ask", 5, 1, (2, 3, 40)),
 ]
 
+# A row of each sort, each of which fits behind those ahead, in a book of the house c.
+ROWS = [
+    ("hand", 1, 3, "abcd", "come at 5"),
+    ("in", 2, 4, 1, 2, 4, "a", 9, "cef", "abc", "go|home"),
+    ("void", 4, 1, 4),
+    ("out", 1, 0, 1, 1, "ad"),
+    ("out", 2, 0, 1, 2, "e"),
+    ("broken", 0, 1, 1),
+    ("check", 4, 1, 6),
+    ("ask", 0, 1, 1),
+    ("ask", 0, 1, 2),
+    ("again", 0, 1, 2),
+]
+
 # What is put in the place of a part; most of them fit nowhere.
 OTHER_PARTS = OTHER_THINGS + ["", "a", "b", "ab", "bd", "g", "1", [], [1], ["a"], 2, 9, 10, 11, 12, 23, 24, 25, (2, 3)]
 

@@ -22,6 +22,7 @@ class Book:
         self.sent = {}
         self.broken = {}
         self.asked = {}
+        # By sendings, the stamp of the tape that came in, 0 where an empty one came.
         self.had = {}
         # By lines and days, the last number sent, and the greatest one had or known to be sent.
         self.lasts = {}
@@ -34,10 +35,10 @@ class Book:
             case ("hand", stamp, rank, ways, text):
                 self.hang_new((rank, self.letter, stamp, ways, self.letter, text))
             case ("in", stamp, line, day, number, *tape):
-                self.have((line, day, number))
+                self.have((line, day, number), stamp)
                 self.hang_new(tuple(tape))
             case ("void", *sending):
-                self.have(tuple(sending))
+                self.have(tuple(sending), 0)
             case ("out", stamp, line, day, number, ways):
                 self.take_down(stamp, (line, day, number), ways)
             case ("broken", *sending):
@@ -56,10 +57,10 @@ class Book:
         if ways:
             self.hung[len(self.tapes)] = ways
 
-    def have(self, sending):
+    def have(self, sending, stamp):
         """Have the number of a sending that came in."""
         line, day, number = sending
-        self.had[sending] = True
+        self.had[sending] = stamp
         self.greatest[line, day] = max(number, self.greatest_known(line, day))
 
     def take_down(self, stamp, sending, ways):
@@ -79,9 +80,26 @@ class Book:
         stamp, ways = self.sent[sending]
         self.hung[stamp] = "".join(sorted(ways + self.hung_ways(stamp)))
 
+    def next_stamp(self):
+        """Tell the stamp of the next tape."""
+        return len(self.tapes) + 1
+
     def hung_ways(self, stamp):
         """Tell the ways with which a tape hangs, an empty text where it doesn't."""
         return self.hung.get(stamp, "")
+
+    def ways_hang(self, stamp, ways):
+        """Tell whether a tape hangs with all of some ways."""
+        hung = self.hung_ways(stamp)
+        return all(way in hung for way in ways)
+
+    def may_break(self, sending):
+        """Tell whether a sending can be broken off: it began, and wasn't broken off yet."""
+        return sending in self.sent and sending not in self.broken
+
+    def may_ask(self, sending):
+        """Tell whether a sending can be asked for: it began, and isn't asked for already."""
+        return sending in self.sent and sending not in self.asked
 
     def last_number(self, line, day):
         """Tell the last number sent by a line on a day."""
@@ -116,6 +134,19 @@ class Book:
         """Tell what was given at the house by stamps, as tuples (origin, serial, text)."""
         return [(tape[1], tape[2], tape[5]) for tape in self.tapes if self.letter in tape[3]]
 
+    def sending_for(self, stamp, way):
+        """Tell the sending of a tape for one of its ways, an empty tuple where the way isn't sent."""
+        for sending in self.sent:
+            sent_stamp, ways = self.sent[sending]
+            if sent_stamp == stamp and way in ways and sending not in self.broken:
+                return sending
+        return ()
+
+    def sent_tape(self, sending):
+        """Tell the rank and the stamp of what was sent, and its ways, an empty text where it was broken off."""
+        stamp, ways = self.sent[sending]
+        return (self.tapes[stamp - 1][0], stamp, "" if sending in self.broken else ways)
+
     def sent_slip(self, sending):
         """Tell the slip of a sending: as it was put out, or the void one where it was broken off."""
         if sending in self.broken:
@@ -127,7 +158,7 @@ class Book:
 
 def is_next_stamp(book, thing):
     """Tell whether a thing is the stamp of the next tape."""
-    return is_whole(thing) and thing == len(book.tapes) + 1
+    return is_whole(thing) and thing == book.next_stamp()
 
 
 def hand_fits(book, parts):
@@ -164,13 +195,12 @@ def out_fits(book, parts):
     stamp, line, day, number, ways = parts
     if not is_whole(stamp) or not is_sending(parts[1:4]) or not is_ways(ways):
         return False
-    hung = book.hung_ways(stamp)
-    return number == book.last_number(line, day) + 1 and all(letter in hung for letter in ways)
+    return number == book.last_number(line, day) + 1 and book.ways_hang(stamp, ways)
 
 
 def broken_fits(book, parts):
     """Tell whether a tuple may stand behind the word "broken" in the next row."""
-    return is_sending(parts) and parts in book.sent and parts not in book.broken
+    return is_sending(parts) and book.may_break(parts)
 
 
 def check_fits(book, parts):
@@ -180,7 +210,7 @@ def check_fits(book, parts):
 
 def ask_fits(book, parts):
     """Tell whether a tuple may stand behind the word "ask" in the next row."""
-    return is_sending(parts) and parts in book.sent and parts not in book.asked
+    return is_sending(parts) and book.may_ask(parts)
 
 
 def again_fits(book, parts):

@@ -51,6 +51,12 @@ def road(links, house, goal, passed):
     return all_roads(links, house, passed).get(goal, [])
 
 
+def first_lines(links, house, passed):
+    """Tell, for each other house that can be come to, the line with which the least of the shortest roads begins."""
+    roads = all_roads(links, house, passed)
+    return {goal: roads[goal][0][0] for goal in roads if roads[goal]}
+
+
 def reached(links, house, passed):
     """Tell the letters of the house and of all houses that can be come to."""
     return "".join(sorted(all_roads(links, house, passed)))

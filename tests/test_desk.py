@@ -198,7 +198,7 @@ class NoSayings(DeskCase):
         self.no_saying("net 2 a,b,1,0,24 x")
 
     def test_numbers(self):
-        for number in ("00", "01", "0123", "10000", "99999", "-1", "+1", "1.0", "a", "1a", "a1", "?", ",", "1,", "'1'"):
+        for number in ("00", "01", "0123", "10000", "99999", "-1", "+1", "1.0", "a", "1a", "a1", "?", ",", "1,", "None"):
             self.no_saying(
                 f"net {number}", f"net {number} a,b,1,0,24", f"hand a {number} b x", f"begin {number} a",
                 f"check {number} a", f"ask {number} b 0", f"ask 0 b {number}", f"run {number} a 0", f"out {number} a",
